@@ -1,0 +1,48 @@
+// Package ordered: a table that stands in the order of its keys.
+package ordered
+
+import (
+	"cmp"
+	"slices"
+)
+
+type entry[K cmp.Ordered, V any] struct {
+	key   K
+	value V
+}
+
+// Table has a value for each of its keys, by rising keys. The zero Table is empty.
+type Table[K cmp.Ordered, V any] struct {
+	entries []entry[K, V]
+}
+
+// Len tells how many keys there are.
+func (t *Table[K, V]) Len() int { return len(t.entries) }
+
+// Place tells how many keys are below this one, and whether it is there itself.
+func (t *Table[K, V]) Place(key K) (int, bool) {
+	return slices.BinarySearchFunc(t.entries, key, func(e entry[K, V], key K) int {
+		return cmp.Compare(e.key, key)
+	})
+}
+
+// Add puts a new key in its place; it changes nothing and tells false if the key is there already.
+func (t *Table[K, V]) Add(key K, value V) bool {
+	place, there := t.Place(key)
+	if there {
+		return false
+	}
+	t.entries = slices.Insert(t.entries, place, entry[K, V]{key, value})
+	return true
+}
+
+// All goes through the keys and their values, by rising keys.
+func (t *Table[K, V]) All() func(yield func(K, V) bool) {
+	return func(yield func(K, V) bool) {
+		for _, e := range t.entries {
+			if !yield(e.key, e.value) {
+				return
+			}
+		}
+	}
+}

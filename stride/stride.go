@@ -1,0 +1,81 @@
+// Package stride: programs that run on all vertices of a graph, step by step, with snapshots on a disk that may fail: see DOC.md.
+package stride
+
+import (
+	"stride/api"
+	"stride/graphs"
+	"stride/programs"
+)
+
+// Parse reads a graph (P3).
+func Parse(graph string) (api.Graph, api.Errno, int) { return graphs.Parse(graph) }
+
+// Compile tells whether a text is a program (P4).
+func Compile(program string) (api.Errno, int) { return programs.Compile(program) }
+
+// Catalogue tells a program by its name (P5).
+func Catalogue(name string) (string, api.Errno) {
+	text, ok := programs.Named(name)
+	if !ok {
+		return "", api.ErrNone
+	}
+	return text, api.OK
+}
+
+// Run runs a program on a graph (P6).
+func Run(graph string, program string, limit int) (api.Result, api.Errno) {
+	return api.Result{}, api.OK
+}
+
+// Seal makes a sealed text of a payload (P7).
+func Seal(payload string) string { return "" }
+
+// Open tells the payload of a sealed text (P7).
+func Open(sealed string) (string, bool) { return "", false }
+
+// Disk is a disk that may fail.
+type Disk struct{}
+
+// NewDisk makes an empty disk (P8).
+func NewDisk(quota int) *Disk { return nil }
+
+// Create makes a file (P8).
+func (d *Disk) Create(name string) api.Errno { return api.OK }
+
+// Append writes behind a file's bytes (P8).
+func (d *Disk) Append(name string, bytes string) api.Errno { return api.OK }
+
+// Sync makes a file's bytes safe (P8).
+func (d *Disk) Sync(name string) api.Errno { return api.OK }
+
+// Rename gives a file another name (P8).
+func (d *Disk) Rename(old string, name string) api.Errno { return api.OK }
+
+// Remove takes a file's name away (P8).
+func (d *Disk) Remove(name string) api.Errno { return api.OK }
+
+// SyncDir makes the names safe (P8).
+func (d *Disk) SyncDir() api.Errno { return api.OK }
+
+// List tells all names (P9).
+func (d *Disk) List() ([]string, api.Errno) { return nil, api.OK }
+
+// Read tells a file's bytes (P9).
+func (d *Disk) Read(name string) (string, api.Errno) { return "", api.OK }
+
+// Used tells how many bytes all files have (P9).
+func (d *Disk) Used() int { return 0 }
+
+// Quota sets how many bytes there may be (P9).
+func (d *Disk) Quota(n int) {}
+
+// Arm sets after how many operations the disk goes down (P10).
+func (d *Disk) Arm(n int) {}
+
+// Crash lets the disk lose what is not safe (P10).
+func (d *Disk) Crash(dir int, keep []int) {}
+
+// Resume runs a program on a graph, with snapshots on a disk, from the newest one on (P11).
+func Resume(d *Disk, graph string, program string, c api.Conf) (api.Result, api.Report, api.Errno) {
+	return api.Result{}, api.Report{}, api.OK
+}
