@@ -1,4 +1,4 @@
-// Package programs: what a program's text says, and the programs of the catalogue (P4, P5).
+// Package programs: what a program's text says, what it does at a vertex, and the programs of the catalogue (P4 to P6).
 package programs
 
 import (
@@ -15,70 +15,97 @@ type shape struct {
 	hasWeight bool
 }
 
+// Where the lines of a program stand.
+const (
+	newLine = iota
+	goLine
+	msgLine
+	haltLine
+	giveLine
+	byLine
+	allLine
+	howManyLines
+)
+
 // shapes: the lines of a program, in their order.
-var shapes = [...]shape{
-	{"new", true, false},
-	{"go", true, false},
-	{"msg", true, true},
-	{"halt", true, false},
-	{"give", true, false},
-	{"by", false, false},
-	{"all", false, false},
+var shapes = [howManyLines]shape{
+	newLine:  {"new", true, false},
+	goLine:   {"go", true, false},
+	msgLine:  {"msg", true, true},
+	haltLine: {"halt", true, false},
+	giveLine: {"give", true, false},
+	byLine:   {"by", false, false},
+	allLine:  {"all", false, false},
 }
 
-// Compile tells whether a text is a program; with an error it tells the line that is at fault.
-func Compile(text string) (api.Errno, int) {
+// line: what a line of a program says, by its shape: code, or how values are made one.
+type line struct {
+	code        code
+	combination Combination
+}
+
+// Program: what all lines of a text say.
+type Program struct {
+	lines [howManyLines]line
+}
+
+// By tells how messages are combined.
+func (p *Program) By() Combination { return p.lines[byLine].combination }
+
+// All tells how what is given is combined.
+func (p *Program) All() Combination { return p.lines[allLine].combination }
+
+// Compile reads a program's text; with an error there is no program, and it tells the line that is at fault.
+func Compile(text string) (*Program, api.Errno, int) {
 	if len(text) > api.MaxProgram {
-		return api.ErrLong, 0
+		return nil, api.ErrLong, 0
 	}
-	codes, at, ok := readLines(strings.Split(text, "\n"))
+	p, at, ok := readLines(strings.Split(text, "\n"))
 	if !ok {
-		return api.ErrForm, at
+		return nil, api.ErrForm, at
 	}
-	for at, c := range codes {
-		if shapes[at].isCode && !c.keepsToStack() {
-			return api.ErrStack, at
+	for at, l := range p.lines {
+		if shapes[at].isCode && !l.code.keepsToStack() {
+			return nil, api.ErrStack, at
 		}
 	}
-	return api.OK, 0
+	return p, api.OK, 0
 }
 
-// readLines reads the code of all lines (none for those that have no code), or tells the first wrong one.
-func readLines(lines []string) ([]code, int, bool) {
-	var codes []code
+// readLines reads all lines, or tells the first wrong one.
+func readLines(texts []string) (*Program, int, bool) {
+	p := new(Program)
 	known := words()
 	for at, s := range shapes {
-		if at == len(lines) {
+		if at == len(texts) {
 			return nil, at, false
 		}
-		c, ok := readLine(lines[at], s, known)
+		l, ok := readLine(texts[at], s, known)
 		if !ok {
 			return nil, at, false
 		}
-		codes = append(codes, c)
+		p.lines[at] = l
 	}
-	return codes, len(shapes), len(lines) == len(shapes)
+	return p, howManyLines, len(texts) == howManyLines
 }
 
-func readLine(line string, s shape, known []word) (code, bool) {
-	texts, ok := splitLine(line, s.name)
+func readLine(text string, s shape, known []word) (line, bool) {
+	texts, ok := splitLine(text, s.name)
 	if !ok {
-		return nil, false
+		return line{}, false
 	}
 	if s.isCode {
-		return readCode(texts, known, s.hasWeight)
+		c, ok := readCode(texts, known, s.hasWeight)
+		return line{code: c}, ok
 	}
-	return nil, len(texts) == 1 && isCombination(texts[0])
+	how, ok := findCombination(texts[0])
+	return line{combination: how}, ok && len(texts) == 1
 }
 
 // splitLine tells the words behind a line's name; where a blank is too many, one of them is empty.
-func splitLine(line, name string) ([]string, bool) {
-	rest, ok := strings.CutPrefix(line, name+": ")
+func splitLine(text, name string) ([]string, bool) {
+	rest, ok := strings.CutPrefix(text, name+": ")
 	return strings.Split(rest, " "), ok
-}
-
-func isCombination(text string) bool {
-	return text == "min" || text == "max" || text == "sum"
 }
 
 // readCode tells the code that the words make, and whether all are words and the brackets belong together.

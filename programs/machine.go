@@ -10,6 +10,7 @@ import (
 var (
 	errStack = errors.New("the code does not keep to the stack")
 	errZero  = errors.New("a division by 0")
+	errFuel  = errors.New("more words than may be done")
 )
 
 // order: a word in its place; mate is the place of the other bracket, if it is one.
@@ -20,9 +21,11 @@ type order struct {
 
 type code []order
 
-// sight: what the words that stand for something stand for.
-type sight struct {
-	value, old, in, got, step, id, deg, all, weight int64
+// Sight: what the words that stand for something stand for.
+type Sight struct {
+	Value, In, Got, Step, ID, Deg, All int64
+
+	old, weight int64
 }
 
 // loop: how often what stands between two brackets is yet to be done, and the height behind the first.
@@ -35,27 +38,39 @@ type loop struct {
 type machine struct {
 	code   code
 	at     int
-	sight  sight
+	fuel   int
+	sight  Sight
 	stack  [api.MaxStack]int64
 	height int
 	loops  []loop
 	dry    bool
 }
 
-// keepsToStack does the code on a dry machine: how many values a word takes and puts hangs on none of them, so that one way through the code shows all.
+// keepsToStack does the code on a dry machine: how many values a word takes and puts hangs on none of them, so that one way through the code, each word once, shows all.
 func (c code) keepsToStack() (keeps bool) {
 	defer func() {
 		if recover() != nil {
 			keeps = false
 		}
 	}()
-	m := machine{code: c, dry: true}
+	m := machine{code: c, fuel: len(c), dry: true}
 	m.run()
 	return m.height == 1
 }
 
+// answer does code that keeps to the stack, and tells the one value that it ends with.
+func (c code) answer(seen Sight) int64 {
+	m := machine{code: c, fuel: api.MaxFuel, sight: seen}
+	m.run()
+	return m.take()
+}
+
 func (m *machine) run() {
 	for ; m.at < len(m.code); m.at++ {
+		if m.fuel == 0 {
+			panic(errFuel)
+		}
+		m.fuel--
 		m.code[m.at].do(m)
 	}
 }

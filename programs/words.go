@@ -10,14 +10,14 @@ type word struct {
 // words: all words of code but the numbers. What a word takes and puts is told by what it does alone: the check of the stack does it too.
 func words() []word {
 	return []word{
-		{name: "value", do: func(m *machine) { m.put(m.sight.value) }},
+		{name: "value", do: func(m *machine) { m.put(m.sight.Value) }},
 		{name: "old", do: func(m *machine) { m.put(m.sight.old) }},
-		{name: "in", do: func(m *machine) { m.put(m.sight.in) }},
-		{name: "got", do: func(m *machine) { m.put(m.sight.got) }},
-		{name: "step", do: func(m *machine) { m.put(m.sight.step) }},
-		{name: "id", do: func(m *machine) { m.put(m.sight.id) }},
-		{name: "deg", do: func(m *machine) { m.put(m.sight.deg) }},
-		{name: "all", do: func(m *machine) { m.put(m.sight.all) }},
+		{name: "in", do: func(m *machine) { m.put(m.sight.In) }},
+		{name: "got", do: func(m *machine) { m.put(m.sight.Got) }},
+		{name: "step", do: func(m *machine) { m.put(m.sight.Step) }},
+		{name: "id", do: func(m *machine) { m.put(m.sight.ID) }},
+		{name: "deg", do: func(m *machine) { m.put(m.sight.Deg) }},
+		{name: "all", do: func(m *machine) { m.put(m.sight.All) }},
 		{name: "weight", needsWeight: true, do: func(m *machine) { m.put(m.sight.weight) }},
 		{name: "+", do: func(m *machine) { lower, upper := m.takeTwo(); m.put(lower + upper) }},
 		{name: "-", do: func(m *machine) { lower, upper := m.takeTwo(); m.put(lower - upper) }},

@@ -6,16 +6,18 @@ import (
 	"slices"
 	"strings"
 	"testing"
+
+	"stride/api"
 )
 
 // do does the code on a machine with these values on its stack, and tells what is there then.
-func do(t *testing.T, text string, seen sight, stack ...int64) []int64 {
+func do(t *testing.T, text string, seen Sight, stack ...int64) []int64 {
 	t.Helper()
 	c, ok := readCode(strings.Split(text, " "), words(), true)
 	if !ok {
 		t.Fatalf("%q is no code", text)
 	}
-	m := machine{code: c, sight: seen}
+	m := machine{code: c, fuel: api.MaxFuel, sight: seen}
 	for _, value := range stack {
 		m.put(value)
 	}
@@ -45,14 +47,14 @@ func TestWhatWordsDo(t *testing.T) {
 		{"[ 2 * ]", []int64{1, 5}, []int64{32}}, {"[ 2 * ]", []int64{3, 1}, []int64{6}}, {"[ 2 * ]", []int64{3, 0}, []int64{3}}, {"[ 2 * ] 1 +", []int64{3, -1}, []int64{4}},
 		{"[ 3 [ 1 + ] 2 * ]", []int64{0, 2}, []int64{18}}, {"[ 0 [ 1 + ] 3 + ]", []int64{0, 4}, []int64{12}},
 	} {
-		if got := do(t, c.text, sight{}, c.stack...); !slices.Equal(got, c.want) {
+		if got := do(t, c.text, Sight{}, c.stack...); !slices.Equal(got, c.want) {
 			t.Errorf("%q on %v = %v, want %v", c.text, c.stack, got, c.want)
 		}
 	}
 }
 
 func TestWhatWordsStandFor(t *testing.T) {
-	seen := sight{value: 1, old: 2, in: 3, got: 4, step: 5, id: 6, deg: 7, all: 8, weight: 9}
+	seen := Sight{Value: 1, old: 2, In: 3, Got: 4, Step: 5, ID: 6, Deg: 7, All: 8, weight: 9}
 	got := do(t, "value old in got step id deg all weight", seen)
 	if !slices.Equal(got, []int64{1, 2, 3, 4, 5, 6, 7, 8, 9}) {
 		t.Errorf("the words stand for %v", got)
@@ -67,6 +69,7 @@ func TestWordsGiveUp(t *testing.T) {
 	}{
 		{"/", []int64{1, 0}, errZero}, {"%", []int64{0, 0}, errZero},
 		{"+", []int64{1}, errStack}, {"dup", make([]int64, 16), errStack}, {"[ 1 ]", []int64{2}, errStack},
+		{"[ ]", []int64{1000000000}, errFuel},
 	} {
 		func() {
 			defer func() {
@@ -74,7 +77,7 @@ func TestWordsGiveUp(t *testing.T) {
 					t.Errorf("%q on %v gives up with %v, want %v", c.text, c.stack, err, c.want)
 				}
 			}()
-			do(t, c.text, sight{}, c.stack...)
+			do(t, c.text, Sight{}, c.stack...)
 		}()
 	}
 }

@@ -41,11 +41,16 @@ func TestTextsAreAnswered(t *testing.T) {
 		text                    string
 		parsed, compiled, named api.Errno
 		parsedAt, compiledAt    int
+		asGraph, asProgram      api.Result
+		graphRun, programRun    api.Errno
 	}
+	reach := named(t, "reach")
 	ask := func(text string) (a answer) {
 		a.graph, a.parsed, a.parsedAt = stride.Parse(text)
 		a.compiled, a.compiledAt = stride.Compile(text)
 		a.text, a.named = stride.Catalogue(text)
+		a.asGraph, a.graphRun = stride.Run(text, reach, 9)
+		a.asProgram, a.programRun = stride.Run(roads, text, 9)
 		return a
 	}
 	texts := wildTexts()
@@ -58,6 +63,17 @@ func TestTextsAreAnswered(t *testing.T) {
 		}
 		if a.parsed == api.OK && a.parsedAt != 0 || a.compiled == api.OK && a.compiledAt != 0 {
 			t.Errorf("OK for %.60q comes with a place: %v", text, a)
+		}
+		if a.graphRun != a.parsed || a.programRun != a.compiled {
+			t.Errorf("runs with %.60q are refused otherwise than the text: %v", text, a)
+		}
+		for _, r := range []api.Result{a.asGraph, a.asProgram} {
+			if nothing := reflect.DeepEqual(r, api.Result{}); nothing != (r.Outcome == api.None) {
+				t.Errorf("a run with %.60q comes to nothing and more: %v", text, a)
+			}
+		}
+		if (a.asGraph.Outcome == api.None) != (a.graphRun != api.OK) || (a.asProgram.Outcome == api.None) != (a.programRun != api.OK) {
+			t.Errorf("a run with %.60q has both a result and an error, or none: %v", text, a)
 		}
 	}
 	for i, text := range slices.Backward(texts) {

@@ -5,13 +5,17 @@ import (
 	"stride/api"
 	"stride/graphs"
 	"stride/programs"
+	"stride/runs"
 )
 
 // Parse reads a graph (P3).
 func Parse(graph string) (api.Graph, api.Errno, int) { return graphs.Parse(graph) }
 
 // Compile tells whether a text is a program (P4).
-func Compile(program string) (api.Errno, int) { return programs.Compile(program) }
+func Compile(program string) (api.Errno, int) {
+	_, e, at := programs.Compile(program)
+	return e, at
+}
 
 // Catalogue tells a program by its name (P5).
 func Catalogue(name string) (string, api.Errno) {
@@ -24,7 +28,18 @@ func Catalogue(name string) (string, api.Errno) {
 
 // Run runs a program on a graph (P6).
 func Run(graph string, program string, limit int) (api.Result, api.Errno) {
-	return api.Result{}, api.OK
+	g, e, _ := graphs.Parse(graph)
+	if e != api.OK {
+		return api.Result{}, e
+	}
+	p, e, _ := programs.Compile(program)
+	if e != api.OK {
+		return api.Result{}, e
+	}
+	if limit < 0 || limit > api.MaxCap {
+		return api.Result{}, api.ErrConf
+	}
+	return runs.Run(g, p, limit), api.OK
 }
 
 // Seal makes a sealed text of a payload (P7).
