@@ -36,6 +36,37 @@ func (t *Table[K, V]) Add(key K, value V) bool {
 	return true
 }
 
+// Get tells a key's value, and whether the key is there.
+func (t *Table[K, V]) Get(key K) (V, bool) {
+	place, there := t.Place(key)
+	if !there {
+		var nothing V
+		return nothing, false
+	}
+	return t.entries[place].value, true
+}
+
+// Set gives a key this value, in place of the one that it has, if it is there.
+func (t *Table[K, V]) Set(key K, value V) {
+	if t.Add(key, value) {
+		return
+	}
+	place, _ := t.Place(key)
+	t.entries[place].value = value
+}
+
+// Remove takes a key away, if it is there.
+func (t *Table[K, V]) Remove(key K) {
+	if place, there := t.Place(key); there {
+		t.entries = slices.Delete(t.entries, place, place+1)
+	}
+}
+
+// Clone makes a table of the same keys and values that changes apart from this one.
+func (t *Table[K, V]) Clone() Table[K, V] {
+	return Table[K, V]{slices.Clone(t.entries)}
+}
+
 // All goes through the keys and their values, by rising keys.
 func (t *Table[K, V]) All() func(yield func(K, V) bool) {
 	return func(yield func(K, V) bool) {

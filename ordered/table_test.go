@@ -47,6 +47,70 @@ func TestAddKeepsTheFirst(t *testing.T) {
 	}
 }
 
+func TestSetAndGet(t *testing.T) {
+	var table Table[string, int]
+	if value, there := table.Get("b"); value != 0 || there {
+		t.Errorf("Get of an empty table = %d, %t", value, there)
+	}
+	for i, key := range []string{"b", "a", "c", "b"} {
+		table.Set(key, i+1)
+	}
+	for key, want := range map[string]int{"a": 2, "b": 4, "c": 3} {
+		if value, there := table.Get(key); value != want || !there {
+			t.Errorf("Get(%q) = %d, %t, want %d", key, value, there, want)
+		}
+	}
+	for _, key := range []string{"", "aa", "d"} {
+		if value, there := table.Get(key); value != 0 || there {
+			t.Errorf("Get(%q) of a key that is not there = %d, %t", key, value, there)
+		}
+	}
+	if got := keysOf(&table); !slices.Equal(got, []string{"a", "b", "c"}) {
+		t.Errorf("keys = %q", got)
+	}
+}
+
+func TestRemove(t *testing.T) {
+	var table Table[string, int]
+	table.Remove("a")
+	for _, key := range []string{"c", "a", "b"} {
+		table.Add(key, 1)
+	}
+	table.Remove("aa")
+	table.Remove("b")
+	table.Remove("b")
+	if got := keysOf(&table); !slices.Equal(got, []string{"a", "c"}) || table.Len() != 2 {
+		t.Errorf("keys = %q, %d", got, table.Len())
+	}
+	if !table.Add("b", 2) {
+		t.Errorf("a key that was removed can't be added")
+	}
+}
+
+func TestCloneChangesApart(t *testing.T) {
+	var table Table[string, int]
+	for i, key := range []string{"a", "b", "c"} {
+		table.Add(key, i)
+	}
+	clone := table.Clone()
+	if got := keysOf(&clone); !slices.Equal(got, []string{"a", "b", "c"}) {
+		t.Errorf("keys of the clone = %q", got)
+	}
+	clone.Remove("a")
+	clone.Set("b", 9)
+	clone.Add("d", 9)
+	table.Add("e", 7)
+	if got := keysOf(&table); !slices.Equal(got, []string{"a", "b", "c", "e"}) {
+		t.Errorf("keys = %q", got)
+	}
+	if value, _ := table.Get("b"); value != 1 {
+		t.Errorf("value of b = %d", value)
+	}
+	if got := keysOf(&clone); !slices.Equal(got, []string{"b", "c", "d"}) {
+		t.Errorf("keys of the changed clone = %q", got)
+	}
+}
+
 func TestAllCanBeLeft(t *testing.T) {
 	var table Table[int, bool]
 	for i := range 5 {

@@ -3,9 +3,11 @@ package stride
 
 import (
 	"stride/api"
+	"stride/disks"
 	"stride/graphs"
 	"stride/programs"
 	"stride/runs"
+	"stride/seals"
 )
 
 // Parse reads a graph (P3).
@@ -43,52 +45,52 @@ func Run(graph string, program string, limit int) (api.Result, api.Errno) {
 }
 
 // Seal makes a sealed text of a payload (P7).
-func Seal(payload string) string { return "" }
+func Seal(payload string) string { return seals.Seal(payload) }
 
 // Open tells the payload of a sealed text (P7).
-func Open(sealed string) (string, bool) { return "", false }
+func Open(sealed string) (string, bool) { return seals.Open(sealed) }
 
 // Disk is a disk that may fail.
-type Disk struct{}
+type Disk struct{ disk disks.Disk }
 
 // NewDisk makes an empty disk (P8).
-func NewDisk(quota int) *Disk { return nil }
+func NewDisk(quota int) *Disk { return &Disk{disks.New(quota)} }
 
 // Create makes a file (P8).
-func (d *Disk) Create(name string) api.Errno { return api.OK }
+func (d *Disk) Create(name string) api.Errno { return d.disk.Create(name) }
 
 // Append writes behind a file's bytes (P8).
-func (d *Disk) Append(name string, bytes string) api.Errno { return api.OK }
+func (d *Disk) Append(name string, bytes string) api.Errno { return d.disk.Append(name, bytes) }
 
 // Sync makes a file's bytes safe (P8).
-func (d *Disk) Sync(name string) api.Errno { return api.OK }
+func (d *Disk) Sync(name string) api.Errno { return d.disk.Sync(name) }
 
 // Rename gives a file another name (P8).
-func (d *Disk) Rename(old string, name string) api.Errno { return api.OK }
+func (d *Disk) Rename(old string, name string) api.Errno { return d.disk.Rename(old, name) }
 
 // Remove takes a file's name away (P8).
-func (d *Disk) Remove(name string) api.Errno { return api.OK }
+func (d *Disk) Remove(name string) api.Errno { return d.disk.Remove(name) }
 
 // SyncDir makes the names safe (P8).
-func (d *Disk) SyncDir() api.Errno { return api.OK }
+func (d *Disk) SyncDir() api.Errno { return d.disk.SyncDir() }
 
 // List tells all names (P9).
-func (d *Disk) List() ([]string, api.Errno) { return nil, api.OK }
+func (d *Disk) List() ([]string, api.Errno) { return d.disk.List() }
 
 // Read tells a file's bytes (P9).
-func (d *Disk) Read(name string) (string, api.Errno) { return "", api.OK }
+func (d *Disk) Read(name string) (string, api.Errno) { return d.disk.Read(name) }
 
 // Used tells how many bytes all files have (P9).
-func (d *Disk) Used() int { return 0 }
+func (d *Disk) Used() int { return d.disk.Used() }
 
 // Quota sets how many bytes there may be (P9).
-func (d *Disk) Quota(n int) {}
+func (d *Disk) Quota(n int) { d.disk.Quota(n) }
 
 // Arm sets after how many operations the disk goes down (P10).
-func (d *Disk) Arm(n int) {}
+func (d *Disk) Arm(n int) { d.disk.Arm(n) }
 
 // Crash lets the disk lose what is not safe (P10).
-func (d *Disk) Crash(dir int, keep []int) {}
+func (d *Disk) Crash(dir int, keep []int) { d.disk.Crash(dir, keep) }
 
 // Resume runs a program on a graph, with snapshots on a disk, from the newest one on (P11).
 func Resume(d *Disk, graph string, program string, c api.Conf) (api.Result, api.Report, api.Errno) {
