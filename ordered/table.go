@@ -46,6 +46,20 @@ func (t *Table[K, V]) Get(key K) (V, bool) {
 	return t.entries[place].value, true
 }
 
+// First tells the least key and its value, and whether there is one.
+func (t *Table[K, V]) First() (K, V, bool) { return t.at(0) }
+
+// Last tells the greatest key and its value, and whether there is one.
+func (t *Table[K, V]) Last() (K, V, bool) { return t.at(len(t.entries) - 1) }
+
+func (t *Table[K, V]) at(place int) (K, V, bool) {
+	if place < 0 || place >= len(t.entries) {
+		var nothing entry[K, V]
+		return nothing.key, nothing.value, false
+	}
+	return t.entries[place].key, t.entries[place].value, true
+}
+
 // Set gives a key this value, in place of the one that it has, if it is there.
 func (t *Table[K, V]) Set(key K, value V) {
 	if t.Add(key, value) {

@@ -134,3 +134,29 @@ func TestEmptyTable(t *testing.T) {
 		t.Errorf("Place in an empty table = %d, %t", place, there)
 	}
 }
+
+func TestFirstAndLast(t *testing.T) {
+	var table Table[int, string]
+	check := func(first int, firstValue string, last int, lastValue string, there bool) {
+		t.Helper()
+		if key, value, ok := table.First(); key != first || value != firstValue || ok != there {
+			t.Errorf("First = %d, %q, %t, want %d, %q", key, value, ok, first, firstValue)
+		}
+		if key, value, ok := table.Last(); key != last || value != lastValue || ok != there {
+			t.Errorf("Last = %d, %q, %t, want %d, %q", key, value, ok, last, lastValue)
+		}
+	}
+	check(0, "", 0, "", false)
+	table.Add(5, "five")
+	check(5, "five", 5, "five", true)
+	table.Add(10, "ten")
+	table.Add(9, "nine")
+	table.Add(-1, "below")
+	check(-1, "below", 10, "ten", true)
+	table.Remove(-1)
+	table.Remove(10)
+	check(5, "five", 9, "nine", true)
+	table.Remove(5)
+	table.Remove(9)
+	check(0, "", 0, "", false)
+}

@@ -1,7 +1,11 @@
 // Package seals: texts that tell whether they are whole.
 package seals
 
-import "strings"
+import (
+	"strings"
+
+	"stride/little"
+)
 
 // headLength: of the payload's length and its sum, in front of the payload.
 const headLength = 8
@@ -39,12 +43,8 @@ func Open(sealed string) (string, bool) {
 }
 
 func head(payload string) string {
-	b := make([]byte, 0, headLength)
-	b = appendLowFirst(b, uint32(len(payload)))
-	b = appendLowFirst(b, Sum(payload))
-	return string(b)
-}
-
-func appendLowFirst(b []byte, n uint32) []byte {
-	return append(b, byte(n), byte(n>>8), byte(n>>16), byte(n>>24))
+	var w little.Writer
+	w.Put(uint64(len(payload)), 4)
+	w.Put(uint64(Sum(payload)), 4)
+	return w.Text()
 }

@@ -12,7 +12,7 @@ import (
 
 // operate does an operation that is written out, such as "append x abc": its name and what it is handed, with a blank between each two.
 func operate(d *stride.Disk, operation string) api.Errno {
-	words := append(strings.Split(operation, " "), "", "")
+	words := append(strings.SplitN(operation, " ", 3), "", "")
 	name, other := words[1], words[2]
 	switch words[0] {
 	case "create":

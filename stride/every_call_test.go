@@ -76,6 +76,15 @@ func TestTextsAreAnswered(t *testing.T) {
 			t.Errorf("a run with %.60q has both a result and an error, or none: %v", text, a)
 		}
 	}
+	for i, text := range texts {
+		a := first[i]
+		conf := api.Conf{Every: 2, Keep: 1, Cap: 9}
+		asGraph, _, graphError := stride.Resume(stride.NewDisk(vast), text, reach, conf)
+		asProgram, _, programError := stride.Resume(stride.NewDisk(vast), roads, text, conf)
+		if graphError != a.graphRun || programError != a.programRun || !reflect.DeepEqual(asGraph, a.asGraph) || !reflect.DeepEqual(asProgram, a.asProgram) {
+			t.Errorf("on a new disk a run with %.60q comes to %v, %d and %v, %d, without one %v", text, asGraph, graphError, asProgram, programError, a)
+		}
+	}
 	for i, text := range slices.Backward(texts) {
 		if again := ask(text); !reflect.DeepEqual(again, first[i]) {
 			t.Errorf("%.60q is answered %v, then %v", text, first[i], again)

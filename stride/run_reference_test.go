@@ -162,65 +162,103 @@ func referenceCombine(kind string, values []int64) int64 {
 	return sorted[len(sorted)-1]
 }
 
-// referenceRun says the document's words on runs over again, with lists of messages that are combined where they are read.
-func referenceRun(g api.Graph, program string, limit int) api.Result {
+// state: a configuration, and the step that it is ahead of.
+type state struct {
+	step   int
+	values []int64
+	rests  []bool
+	got    []int
+	in     []int64
+	all    int64
+}
+
+// referenceProgram: the words of each line, by its name.
+func referenceProgram(text string) map[string][]string {
 	code := map[string][]string{}
-	for _, line := range strings.Split(program, "\n") {
+	for _, line := range strings.Split(text, "\n") {
 		name, rest, _ := strings.Cut(line, ": ")
 		code[name] = strings.Split(rest, " ")
 	}
-	by, all := code["by"][0], code["all"][0]
-	values := slices.Clone(g.Values)
-	awake := make([]bool, len(values))
-	for i := range awake {
-		awake[i] = true
+	return code
+}
+
+// referenceBegin: a state without messages and gifts, in which no vertex rests.
+func referenceBegin(g api.Graph, program string) state {
+	n := len(g.Values)
+	s := state{values: g.Values, rests: make([]bool, n), got: make([]int, n), all: referenceCombine(referenceProgram(program)["all"][0], nil)}
+	for range n {
+		s.in = append(s.in, referenceCombine(referenceProgram(program)["by"][0], nil))
 	}
-	mail := make([][]int64, len(values))
-	var given []int64
-	for step := 0; ; step++ {
+	return s
+}
+
+func referenceRun(g api.Graph, program string, limit int) api.Result {
+	r, _ := referenceRunFrom(referenceBegin(g, program), g, program, limit)
+	return r
+}
+
+// referenceRunFrom says the document's words on runs over again, with lists of messages that are combined when all are there. It also tells the states ahead of all steps that were begun.
+func referenceRunFrom(s state, g api.Graph, program string, limit int) (api.Result, []state) {
+	code := referenceProgram(program)
+	var begun []state
+	for {
 		active := []int{}
-		for i := range values {
-			if awake[i] || len(mail[i]) > 0 {
+		for i := range s.values {
+			if s.step == 0 || !s.rests[i] || s.got[i] > 0 {
 				active = append(active, i)
 			}
 		}
 		if len(active) == 0 {
-			return api.Result{Outcome: api.Quiet, Step: step, Values: values}
+			return api.Result{Outcome: api.Quiet, Step: s.step, Values: s.values}, begun
 		}
-		if step >= limit {
-			return api.Result{Outcome: api.Capped, Step: step, Values: values}
+		if s.step >= limit {
+			return api.Result{Outcome: api.Capped, Step: s.step, Values: s.values}, begun
 		}
-		ahead := slices.Clone(values)
-		sent := make([][]int64, len(values))
-		var gifts []int64
-		for _, i := range active {
-			edges := slices.DeleteFunc(slices.Clone(g.Edges), func(e api.Edge) bool { return e.From != i })
-			seen := map[string]int64{"value": values[i], "old": values[i], "in": referenceCombine(by, mail[i]), "got": int64(len(mail[i])), "step": int64(step), "id": int64(i), "deg": int64(len(edges)), "all": referenceCombine(all, given)}
-			failed := false
-			ask := func(name string) int64 {
-				r := codeReference{seen: seen}
-				if failed || !r.do(code[name]) {
-					failed = true
-					return 0
-				}
-				return r.stack[0]
-			}
-			values[i] = ask("new")
-			seen["value"] = values[i]
-			if ask("go") != 0 {
-				for _, e := range edges {
-					seen["weight"] = e.Weight
-					sent[e.To] = append(sent[e.To], ask("msg"))
-				}
-			}
-			awake[i] = ask("halt") == 0
-			gifts = append(gifts, ask("give"))
-			if failed {
-				return api.Result{Outcome: api.Faulted, Step: step, Vertex: i, Values: ahead}
-			}
+		begun = append(begun, s)
+		next, failed, ok := referenceStep(s, active, g, code)
+		if !ok {
+			return api.Result{Outcome: api.Faulted, Step: s.step, Vertex: failed, Values: s.values}, begun
 		}
-		mail, given = sent, gifts
+		s = next
 	}
+}
+
+func referenceStep(s state, active []int, g api.Graph, code map[string][]string) (state, int, bool) {
+	next := state{step: s.step + 1, values: slices.Clone(s.values), rests: slices.Clone(s.rests)}
+	sent := make([][]int64, len(s.values))
+	var gifts []int64
+	for _, i := range active {
+		edges := slices.DeleteFunc(slices.Clone(g.Edges), func(e api.Edge) bool { return e.From != i })
+		seen := map[string]int64{"value": s.values[i], "old": s.values[i], "in": s.in[i], "got": int64(s.got[i]), "step": int64(s.step), "id": int64(i), "deg": int64(len(edges)), "all": s.all}
+		failed := false
+		ask := func(name string) int64 {
+			r := codeReference{seen: seen}
+			if failed || !r.do(code[name]) {
+				failed = true
+				return 0
+			}
+			return r.stack[0]
+		}
+		next.values[i] = ask("new")
+		seen["value"] = next.values[i]
+		if ask("go") != 0 {
+			for _, e := range edges {
+				seen["weight"] = e.Weight
+				sent[e.To] = append(sent[e.To], ask("msg"))
+			}
+		}
+		next.rests[i] = ask("halt") != 0
+		gifts = append(gifts, ask("give"))
+		if failed {
+			return state{}, i, false
+		}
+	}
+	for _, mail := range sent {
+		next.got = append(next.got, len(mail))
+		next.in = append(next.in, referenceCombine(code["by"][0], mail))
+	}
+	next.all = referenceCombine(code["all"][0], gifts)
+	return next, 0, true
 }
 
 // compareRun tells how the run ended.

@@ -8,6 +8,7 @@ import (
 	"stride/programs"
 	"stride/runs"
 	"stride/seals"
+	"stride/snapshots"
 )
 
 // Parse reads a graph (P3).
@@ -30,19 +31,28 @@ func Catalogue(name string) (string, api.Errno) {
 
 // Run runs a program on a graph (P6).
 func Run(graph string, program string, limit int) (api.Result, api.Errno) {
-	g, e, _ := graphs.Parse(graph)
+	g, p, e := read(graph, program)
 	if e != api.OK {
 		return api.Result{}, e
 	}
-	p, e, _ := programs.Compile(program)
-	if e != api.OK {
-		return api.Result{}, e
-	}
-	if limit < 0 || limit > api.MaxCap {
+	if !isFrom(limit, 0, api.MaxCap) {
 		return api.Result{}, api.ErrConf
 	}
-	return runs.Run(g, p, limit), api.OK
+	job := runs.NewJob(g, p, limit)
+	return job.Run(job.Begin(), func(runs.Configuration) {}), api.OK
 }
+
+// read tells what both texts say, or the first error of them.
+func read(graph, program string) (api.Graph, *programs.Program, api.Errno) {
+	g, e, _ := graphs.Parse(graph)
+	if e != api.OK {
+		return api.Graph{}, nil, e
+	}
+	p, e, _ := programs.Compile(program)
+	return g, p, e
+}
+
+func isFrom(n, least, most int) bool { return least <= n && n <= most }
 
 // Seal makes a sealed text of a payload (P7).
 func Seal(payload string) string { return seals.Seal(payload) }
@@ -94,5 +104,44 @@ func (d *Disk) Crash(dir int, keep []int) { d.disk.Crash(dir, keep) }
 
 // Resume runs a program on a graph, with snapshots on a disk, from the newest one on (P11).
 func Resume(d *Disk, graph string, program string, c api.Conf) (api.Result, api.Report, api.Errno) {
-	return api.Result{}, api.Report{}, api.OK
+	g, p, e := read(graph, program)
+	if e != api.OK {
+		return api.Result{}, api.Report{}, e
+	}
+	if !isFrom(c.Every, 1, api.MaxEvery) || !isFrom(c.Keep, 1, api.MaxKeep) || !isFrom(c.Cap, 0, api.MaxCap) {
+		return api.Result{}, api.Report{}, api.ErrConf
+	}
+	shelf, e := snapshots.NewShelf(&d.disk, snapshots.NewJob(graph, program, c.Cap, len(g.Values)), c.Keep)
+	if e != api.OK {
+		return api.Result{}, api.Report{}, e
+	}
+	return resume(runs.NewJob(g, p, c.Cap), shelf, c.Every)
+}
+
+// resume goes on with a job from its newest snapshot. If the shelf gives up, the error and the report so far are all that it tells.
+func resume(job runs.Job, shelf *snapshots.Shelf, every int) (result api.Result, report api.Report, e api.Errno) {
+	defer func() {
+		switch why := recover().(type) {
+		case nil:
+		case snapshots.Failure:
+			e = why.Errno
+		default:
+			// The disk did not give up: this must not pass for one that did.
+			panic(why)
+		}
+	}()
+	from, found := shelf.Newest()
+	if !found {
+		from = job.Begin()
+	}
+	report.From = from.Step
+	shelf.CleanUp()
+	result = job.Run(from, func(ahead runs.Configuration) {
+		if ahead.Step > from.Step && ahead.Step%every == 0 {
+			shelf.Save(ahead)
+			report.Saved++
+			shelf.Thin()
+		}
+	})
+	return result, report, api.OK
 }
